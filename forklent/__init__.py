@@ -1,0 +1,1 @@
+"""Forklent: a borrow checker for threads that borrow from one another."""
