@@ -21,7 +21,16 @@ INTERFACE = {
         "is_prefix": "(first, second)", "overlap": "(first, second)", "kind_at": "(place, *, records, kinds)",
         "crossed": "(place, *, records, kinds)",
     },
+    "kinding": {"check_kinds": "(program)"},
+    "graph": {"Graph": None, "build_graph": "(program, name)"},
+    "effects": {
+        "uses": "(program, graph, point)", "clears": "(program, graph, point)", "access": "(program, graph, point)",
+        "moves": "(program, graph, point)",
+    },
+    "layout": {"size": "(records, kind)"},
 }
+# The files that the document does not list, but that these need.
+HELPERS = ("programs",)
 
 
 class TestForm(unittest.TestCase):
@@ -41,9 +50,9 @@ class TestForm(unittest.TestCase):
                     self.assertTrue(inspect.isfunction(found), word)
                     self.assertEqual(str(inspect.signature(found)), parameters, word)
 
-    def test_the_package_has_only_the_files_of_the_interface(self):
+    def test_the_package_has_only_the_files_that_are_needed(self):
         found = sorted(file.name for file in PACKAGE.iterdir() if file.name != "__pycache__")
-        self.assertEqual(found, sorted(["__init__.py"] + [f"{name}.py" for name in INTERFACE]))
+        self.assertEqual(found, sorted(f"{name}.py" for name in ("__init__", *INTERFACE, *HELPERS)))
 
     def test_sizes_and_characters(self):
         for file, tree in self.trees():
