@@ -84,6 +84,11 @@ def leaves_of(program, graph, place):
     return tuple([(variable, steps + path) for path in leaves(kind)])
 
 
+def is_task(program, graph, leaf):
+    """Tell whether a leaf is a task leaf."""
+    return kind_at(leaf, records=program[0], kinds=graph.kinds)[0] == "task"
+
+
 def leaves_of_temporaries(program, graph, names):
     """The tuple of the leaves of several variables or temporaries, in their order."""
     return tuple([leaf for name in names for leaf in leaves_of(program, graph, (name, ()))])

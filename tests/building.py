@@ -73,6 +73,39 @@ def do(expression):
     return ("do", expression)
 
 
+def store(place, expression):
+    return ("store", place, expression)
+
+
+def show(expression):
+    return ("print", expression)
+
+
+def give(expression):
+    return ("return", expression)
+
+
+def call(name, *arguments):
+    return ("call", name, arguments)
+
+
+def spawn(name, *arguments):
+    return ("spawn", name, arguments)
+
+
+def join(expression):
+    return ("join", expression)
+
+
+def op(sign, left, right):
+    return ("op", sign, left, right)
+
+
+def at(variable, *steps):
+    """A place."""
+    return (variable, steps)
+
+
 def main(*block, parameters=(), result=UNIT):
     return ("main", parameters, result, (), block)
 

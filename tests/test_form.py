@@ -28,6 +28,13 @@ INTERFACE = {
         "moves": "(program, graph, point)",
     },
     "layout": {"size": "(records, kind)"},
+    "marks": {
+        "loans": "(program, graph)", "conflicts": "(wanted, loan, crossing)", "first_marks": "(program, graph)",
+        "new_marks": "(program, graph, point)", "pass_mark": "(program, graph, point, mark)",
+        "problems": "(program, graph, point, marks)",
+    },
+    "checker": {"check_function": "(program, name)", "check_program": "(program)"},
+    "papers": {"paper": "(program)", "judge": "(program, paper)"},
 }
 # The files that the document does not list, but that these need.
 HELPERS = ("programs",)
