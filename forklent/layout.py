@@ -1,11 +1,57 @@
-"""Layout: how many cells a value of a kind takes."""
+"""Layout: how many cells a value of a kind takes, and where in a row of cells its parts lie."""
 
-from forklent.kinds import kinds_inside
+from forklent.errors import NoSuchStep
+from forklent.kinds import fields_of, kind_after, kinds_inside
 
 
 def size(records, kind):
     """The number of cells that a value of a kind takes."""
     return cells(record_sizes(records), kind)
+
+
+def offset(records, kind, step):
+    """How many cells stand before what a step selects in a value of a kind."""
+    # This raises NoSuchStep if the step does not fit at all.
+    kind_after(records, kind, step)
+    if step == "^":
+        raise NoSuchStep("what stands behind the step '^' does not lie in the value itself")
+    return cells_before(records, record_sizes(records), kind, step)
+
+
+def frame(program, graph):
+    """A dict from the names of a function to their offsets in the block of a call; "" has the size of the block."""
+    sizes = record_sizes(program[0])
+    offsets = {}
+    total = 0
+    for name in names_of(graph):
+        offsets[name] = total
+        total += cells(sizes, graph.kinds[name])
+    offsets[""] = max(1, total)
+    return offsets
+
+
+def names_of(graph):
+    """The list of the names of a function: the parameters, and then the others as they appear in the points."""
+    names = {name: True for name in graph.parameters}
+    for instruction in graph.points:
+        # A name appears first where it is given a value, and there it stands behind the word of the instruction.
+        if len(instruction) > 1 and isinstance(instruction[1], str):
+            names[instruction[1]] = True
+    return list(names)
+
+
+def cells_before(records, sizes, kind, step):
+    """How many cells stand before what a fitting step selects, by the sizes of the records."""
+    if step == "?":
+        return 1
+    if kind[0] == "tuple":
+        return sum([cells(sizes, part) for part in kind[1][:step]])
+    before = 0
+    for field, part in fields_of(records, kind[1]):
+        if field == step:
+            break
+        before += cells(sizes, part)
+    return before
 
 
 def cells(sizes, kind):

@@ -96,7 +96,7 @@ class Passing:
         if state == "alive":
             state = self.state_after(loan)
         ends = [end for begin, end in self.pairs if begin == leaf]
-        if leaf not in self.cleared and leaf not in ends:
+        if leaf not in self.cleared:
             ends.append(leaf)
         return [("loan", end, loan, state) for end in ends]
 

@@ -17,18 +17,20 @@ PLAIN = (
     INT, INT, INT, INT, BOOL, box(INT), box(INT), maybe(INT), maybe(box(INT)), items(INT, INT), items(INT, box(INT)),
     of("Pair"), of("Node"), of("Both"), box(items(INT, maybe(INT))), box(box(INT)), UNIT,
 )
-SIGNS = {("int",): "+-*", ("bool",): ("<", "==", "and", "or")}
+ANY_PROBLEM = ("moved", "dead", "busy", "escape")
 
 
 class Maker:
     """The making of one program."""
 
-    def __init__(self, seed, strict=True):
+    def __init__(self, seed, allowed):
         self.random = random.Random(seed)
-        # A strict maker leaves out each statement with which its function would have a problem.
-        self.strict = strict
+        # A statement is left out if its function would have a problem with it that is not one of these.
+        self.allowed = allowed
         self.functions = []
+        # How many variables were declared, and the kinds of all of them.
         self.names = 0
+        self.kind_of_let = {}
 
     def pick(self, choices):
         return self.random.choice(list(choices))
@@ -71,19 +73,17 @@ class Maker:
         return tuple((f"p{at}", self.some_kind(0.6)) for at in range(self.random.randint(0, 3)))
 
     def result(self):
-        return self.some_kind(0.2)
+        return self.some_kind(0.3)
 
     def function(self, name, parameters, result):
-        with_leaves = [parameter for parameter, kind in parameters if leaves(kind)]
-        sources = ()
-        if leaves(result):
-            sources = tuple(with_leaves)
-        elif with_leaves and self.chance(0.1):
-            sources = (with_leaves[0],)
+        with_leaves = tuple(parameter for parameter, kind in parameters if leaves(kind))
+        share = 0.8 if leaves(result) else 0.1
+        sources = tuple(parameter for parameter in with_leaves if self.chance(share))
         self.signature = (name, parameters, result, sources)
         self.scope = list(parameters)
+        # The open blocks: for each the statements before it, and what makes a statement of it.
         self.blocks = []
-        # While a function is made, calls of it cannot be made, but for those that it may make of itself.
+        # How many statements it still takes until no new block is opened.
         self.spare = 20
         block = self.block(self.random.randint(4, 14), 0)
         if result != UNIT or self.chance(0.3):
@@ -115,7 +115,8 @@ class Maker:
             check_kinds(program)
         except KindProblem:
             return False
-        return not self.strict or check_function(program, name) is None
+        found = check_function(program, name)
+        return found is None or found[0] in self.allowed
 
     def block(self, many, depth):
         outside = len(self.scope)
@@ -126,8 +127,6 @@ class Maker:
                 made = longer
         self.scope = self.scope[:outside]
         return made
-
-    kind_of_let = {}
 
     def statement(self, before, depth):
         """The block so far with one more statement, or None if the statement does not fit."""
@@ -191,31 +190,37 @@ class Maker:
         return longer
 
     def nested(self, before, depth):
-        condition = self.expression(BOOL, 2)
+        """The block so far with an `if` or a `while`, or None if it does not fit."""
         if self.chance(0.5):
-            wraps = [lambda inside: ("if", condition, inside, ())]
-        else:
-            # Most loops end, as they count.
-            counter = self.counter()
-            if counter is not None:
-                condition = ("op", "<", ("use", counter), ("int", self.random.randint(1, 4)))
-            wraps = [lambda inside: ("while", condition, inside)]
-        self.blocks.append((before, wraps[0]))
-        first = ()
-        if self.fits(first):
-            first = self.block(self.random.randint(1, 4), depth + 1)
-            if wraps[0](())[0] == "while" and counter is not None:
-                longer = first + (("store", counter, ("op", "+", ("use", counter), ("int", 1))),)
-                first = longer if self.fits(longer) else first
+            return self.branch(before, depth)
+        # Most loops end, as they count.
+        counter = self.counter()
+        condition = self.expression(BOOL, 2)
+        if counter is not None:
+            condition = ("op", "<", ("use", counter), ("int", self.random.randint(1, 4)))
+        self.blocks.append((before, lambda inside: ("while", condition, inside)))
+        block = self.inner_block(depth)
+        if counter is not None:
+            longer = block + (("store", counter, ("op", "+", ("use", counter), ("int", 1))),)
+            block = longer if self.fits(longer) else block
         self.blocks.pop()
-        if wraps[0](())[0] == "if" and self.chance(0.5):
-            self.blocks.append((before, lambda inside: ("if", condition, first, inside)))
-            second = self.block(self.random.randint(1, 3), depth + 1) if self.fits(()) else ()
-            self.blocks.pop()
-            longer = before + (("if", condition, first, second),)
-        else:
-            longer = before + (wraps[0](first),)
+        longer = before + (("while", condition, block),)
         return longer if self.fits(longer) else None
+
+    def branch(self, before, depth):
+        condition = self.expression(BOOL, 2)
+        self.blocks.append((before, lambda inside: ("if", condition, inside, ())))
+        first, second = self.inner_block(depth), ()
+        self.blocks.pop()
+        if self.chance(0.5):
+            self.blocks.append((before, lambda inside: ("if", condition, first, inside)))
+            second = self.inner_block(depth)
+            self.blocks.pop()
+        longer = before + (("if", condition, first, second),)
+        return longer if self.fits(longer) else None
+
+    def inner_block(self, depth):
+        return self.block(self.random.randint(1, 4), depth + 1) if self.fits(()) else ()
 
     def counter(self):
         """A place of an integer that can be stored to."""
@@ -331,9 +336,9 @@ def smallest(kind):
     return {"int": ("int", 4), "bool": ("bool", True), "unit": ("unit",)}[word]
 
 
-def random_program(seed, strict=True):
-    """A program that passes the check of kinds; with `strict`, an accepted one."""
-    return Maker(seed, strict).program()
+def random_program(seed, allowed=()):
+    """A program that passes the check of kinds, and in which the first problem of a function is an allowed one."""
+    return Maker(seed, allowed).program()
 
 
 def random_arguments(program, seed):

@@ -10,7 +10,7 @@ from forklent.errors import ForkError, NoSuchFunction
 from forklent.graph import build_graph
 from forklent.kinding import check_kinds
 from forklent.marks import first_marks, new_marks, pass_mark, problems
-from generating import random_program
+from generating import ANY_PROBLEM, random_program
 
 RECORDS = (record("Pair", INT, BOX),)
 FUNCTIONS = (
@@ -131,7 +131,8 @@ class TestAccepted(Case):
             let("t", spawn("one", seize("p", 0))), let("u", spawn("one", seize("p", 1))), show(join(use("t"))),
             show(use("p", 0)), parameters=(("p", items(INT, INT)),))
         self.accept(
-            let("t", spawn("see", lend("n"))), let("u", spawn("see", lend("n"))), show(use("n")), parameters=(("n", INT),))
+            let("t", spawn("see", lend("n"))), let("u", spawn("see", lend("n"))), show(use("n")),
+            parameters=(("n", INT),))
         # The task is dropped before the variable that its thread has.
         self.accept(let("n", num(1)), let("t", spawn("one", seize("n"))))
         self.accept(let("t", call("send", seize("n"))), show(join(use("t"))), show(use("n")), parameters=(("n", INT),))
@@ -230,11 +231,13 @@ class TestBusy(Case):
         started = let("t", spawn("one", seize("n")))
         for instruction, statement in (
                 (("copy", "#2", at("n")), show(use("n"))), (("borrow", "#2", "shared", at("n")), do(lend("n"))),
-                (("borrow", "#2", "exclusive", at("n")), do(seize("n"))), (("store", at("n"), "#2"), store(at("n"), num(1))),
+                (("borrow", "#2", "exclusive", at("n")), do(seize("n"))),
+                (("store", at("n"), "#2"), store(at("n"), num(1))),
                 (("swap", "#3", at("n"), "#2"), show(("swap", at("n"), num(1))))):
             self.refuse("busy", instruction, started, statement, parameters=(("n", INT),))
         self.refuse(
-            "busy", ("move", "#2", at("x")), let("t", spawn("one", seize("x", "^"))), do(use("x")), parameters=(("x", BOX),))
+            "busy", ("move", "#2", at("x")), let("t", spawn("one", seize("x", "^"))), do(use("x")),
+            parameters=(("x", BOX),))
         self.refuse(
             "busy", ("is", "#2", at("m")), let("t", spawn("one", seize("m", "?"))), do(("is", at("m"))),
             parameters=(("m", maybe(INT)),))
@@ -301,7 +304,7 @@ class TestPaths(Case):
     def test_random_functions(self):
         refused = 0
         for seed in range(60):
-            program = random_program(seed, strict=False)
+            program = random_program(seed, ANY_PROBLEM)
             for function in program[1]:
                 graph = build_graph(program, function[0])
                 found = check_function(program, function[0])
@@ -319,7 +322,8 @@ class TestPrograms(Case):
         late = (do(use("x")), show(num(1)), do(use("x")))
         good = ("good", (), UNIT, (), ())
         for block, other in ((bad, late), (late, bad)):
-            program = ((), (good, ("zz", (("x", BOX),), UNIT, (), block), ("aa", (("x", BOX),), UNIT, (), other), main()))
+            program = ((), (good, ("zz", (("x", BOX),), UNIT, (), block), ("aa", (("x", BOX),), UNIT, (), other),
+                main()))
             self.assertIsNone(check_kinds(program))
             found = check_program(program)
             self.assertEqual(found[0], "zz")

@@ -27,7 +27,9 @@ INTERFACE = {
         "uses": "(program, graph, point)", "clears": "(program, graph, point)", "access": "(program, graph, point)",
         "moves": "(program, graph, point)",
     },
-    "layout": {"size": "(records, kind)"},
+    "layout": {
+        "size": "(records, kind)", "offset": "(records, kind, step)", "frame": "(program, graph)",
+    },
     "marks": {
         "loans": "(program, graph)", "conflicts": "(wanted, loan, crossing)", "first_marks": "(program, graph)",
         "new_marks": "(program, graph, point)", "pass_mark": "(program, graph, point, mark)",
@@ -35,9 +37,22 @@ INTERFACE = {
     },
     "checker": {"check_function": "(program, name)", "check_program": "(program)"},
     "papers": {"paper": "(program)", "judge": "(program, paper)"},
+    "meaning": {"meaning": "(program, arguments, limit)"},
+    "memory": {"Memory": "()"},
+    "machine": {
+        "run_memory": "(program, arguments, schedule, limit)", "trace_memory": "(program, arguments, schedule, limit)",
+        "watch": "(program, arguments, schedule, limit)",
+    },
+}
+# For each class whose methods the document lists, these with their parameters.
+METHODS = {
+    "Memory": {
+        "allocate": "(self, size)", "release": "(self, address)", "read": "(self, address)",
+        "write": "(self, address, number)", "blocks": "(self)",
+    },
 }
 # The files that the document does not list, but that these need.
-HELPERS = ("programs",)
+HELPERS = ("cells", "history", "instructions", "plain", "programs", "running", "shapes", "tracked")
 
 
 class TestForm(unittest.TestCase):
@@ -51,11 +66,18 @@ class TestForm(unittest.TestCase):
             for word, parameters in listed.items():
                 found = getattr(module, word)
                 self.assertEqual(found.__module__, f"forklent.{name}")
-                if parameters is None:
+                if parameters is None or word in METHODS:
                     self.assertTrue(inspect.isclass(found), word)
                 else:
                     self.assertTrue(inspect.isfunction(found), word)
+                if parameters is not None:
                     self.assertEqual(str(inspect.signature(found)), parameters, word)
+
+    def test_methods_are_defined_in_the_class_itself(self):
+        for name, listed in METHODS.items():
+            module = importlib.import_module(f"forklent.{name.lower()}")
+            for word, parameters in listed.items():
+                self.assertEqual(str(inspect.signature(vars(vars(module)[name])[word])), parameters, word)
 
     def test_the_package_has_only_the_files_that_are_needed(self):
         found = sorted(file.name for file in PACKAGE.iterdir() if file.name != "__pycache__")

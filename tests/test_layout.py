@@ -1,8 +1,14 @@
 import copy
 import unittest
 
-from building import BOOL, BOX, EXCLUSIVE, INT, SHARED, TASK, UNIT, box, items, maybe, of, record, wide
-from forklent.layout import size
+from building import (
+    BOOL, BOX, EXCLUSIVE, INT, SHARED, TASK, TRUE, UNIT, box, call, do, give, items, let, main, maybe, num, of, record,
+    show, store, use, wide,
+)
+from forklent.errors import ForkError, NoSuchStep
+from forklent.graph import build_graph
+from forklent.kinding import check_kinds
+from forklent.layout import frame, offset, size
 
 RECORDS = (
     record("Deep", of("Pair"), maybe(of("Pair")), box(of("Deep"))),
@@ -52,6 +58,86 @@ class TestSize(unittest.TestCase):
         before = copy.deepcopy((RECORDS, kind))
         size(RECORDS, kind)
         self.assertEqual((RECORDS, kind), before)
+
+
+class TestOffset(unittest.TestCase):
+    KIND = items(maybe(INT), INT, of("Pair"), BOX)
+
+    def test_items(self):
+        self.assertEqual([offset(RECORDS, self.KIND, step) for step in range(4)], [0, 2, 3, 5])
+        self.assertEqual([offset((), items(SHARED, TASK, INT), step) for step in range(3)], [0, 1, 2])
+
+    def test_fields(self):
+        self.assertEqual([offset(RECORDS, of("Deep"), field) for field in "abc"], [0, 2, 5])
+        self.assertEqual([offset(RECORDS, of("Pair"), field) for field in "ab"], [0, 1])
+
+    def test_payloads(self):
+        for kind in (INT, self.KIND, of("Deep"), TASK):
+            self.assertEqual(offset(RECORDS, maybe(kind), "?"), 1)
+
+    def test_what_lies_elsewhere_has_no_offset(self):
+        for kind in (BOX, SHARED, EXCLUSIVE, box(of("Deep")), TASK, INT, maybe(INT), of("Pair"), self.KIND):
+            self.refuse(kind, "^")
+
+    def test_steps_that_do_not_fit(self):
+        for step in (4, -1, 100, "a", "?", "", True, False):
+            self.refuse(self.KIND, step)
+        for step in ("c", "d", 0, "?", ""):
+            self.refuse(of("Pair"), step)
+        for step in (0, 1, "a"):
+            self.refuse(maybe(INT), step)
+        for kind in (INT, BOOL, UNIT, BOX, SHARED, TASK):
+            for step in (0, "a", "?"):
+                self.refuse(kind, step)
+
+    def refuse(self, kind, step):
+        with self.assertRaises(ForkError) as caught:
+            offset(RECORDS, kind, step)
+        self.assertIs(type(caught.exception), NoSuchStep)
+
+    def test_the_arguments_are_not_modified(self):
+        before = copy.deepcopy((RECORDS, self.KIND))
+        offset(RECORDS, self.KIND, 2)
+        self.assertEqual((RECORDS, self.KIND), before)
+
+
+class TestFrame(unittest.TestCase):
+    def frame_of(self, *block, parameters=(), result=UNIT):
+        program = (RECORDS, (("under", parameters, result, (), block), main()))
+        self.assertIsNone(check_kinds(program))
+        graph = build_graph(program, "under")
+        before = copy.deepcopy((program, vars(graph)))
+        found = frame(program, graph)
+        self.assertEqual((program, vars(graph)), before)
+        self.assertEqual(set(found), {"", *graph.kinds})
+        return found
+
+    def test_parameters_come_first(self):
+        self.assertEqual(
+            self.frame_of(parameters=(("b", maybe(INT)), ("a", of("Deep")), ("c", SHARED))),
+            {"b": 0, "a": 2, "c": 8, "#0": 9, "": 10})
+
+    def test_then_all_others_as_they_appear(self):
+        found = self.frame_of(
+            let("z", ("tuple", (num(1), ("some", num(2))))), let("y", use("z")), do(call("under", use("a"))),
+            store(("y", (0,)), use("a")), parameters=(("a", INT),))
+        self.assertEqual(found, {
+            "a": 0, "#0": 1, "#1": 2, "#2": 3, "#3": 5, "z": 8, "#4": 11, "y": 14, "#5": 17, "#6": 18, "#7": 19,
+            "#8": 20, "": 21})
+
+    def test_in_blocks_and_behind_a_return(self):
+        found = self.frame_of(
+            ("while", TRUE, (let("x", ("none", INT)), ("if", TRUE, (give(num(1)),), (let("w", num(2)),)))),
+            give(num(3)), let("v", num(4)), result=INT)
+        self.assertEqual(found, {
+            "#0": 0, "#1": 1, "x": 3, "#2": 5, "#3": 6, "#4": 7, "w": 8, "#5": 9, "#6": 10, "v": 11, "": 12})
+
+    def test_a_frame_has_one_cell_at_least(self):
+        self.assertEqual(self.frame_of(result=INT), {"": 1})
+
+    def test_a_frame_that_is_full(self):
+        found = self.frame_of(show(num(1)), parameters=tuple((f"p{at}", wide(60)) for at in range(6)))
+        self.assertEqual(found, {**{f"p{at}": at * 60 for at in range(6)}, "#0": 360, "#1": 361, "": 362})
 
 
 if __name__ == "__main__":

@@ -2,7 +2,7 @@ import copy
 import unittest
 
 from building import (
-    BOX, EXCLUSIVE, INT, SHARED, TASK, TRUE, UNIT, at, box, call, do, give, items, join, lend, let, main, maybe, num,
+    BOX, EXCLUSIVE, INT, SHARED, TASK, TRUE, UNIT, at, call, do, give, items, join, lend, let, main, maybe, num,
     of, record, seize, show, spawn, store, use,
 )
 from forklent.graph import build_graph
@@ -175,7 +175,8 @@ class TestNewMarks(Case):
             words.add(instruction[0])
             self.assertEqual(new_marks(program, graph, point), [], instruction)
         self.assertLessEqual({
-            "set", "make", "let", "is", "test", "print", "jump", "store", "copy", "swap", "drop", "call", "spawn", "join",
+            "set", "make", "let", "is", "test", "print", "jump", "store", "copy", "swap", "drop", "call", "spawn",
+            "join",
             "unbox", "leave"}, words)
 
 
@@ -288,7 +289,8 @@ class TestPassedLoans(Case):
             store(at("e", "^"), num(1)), do(("swap", at("e", "^"), num(2))), do(seize("e", "^")), do(use("e", "^")),
             parameters=(("e", EXCLUSIVE),))
         mark = loan(at("e"), "e")
-        for instruction in (("store", at("e", "^"), "#0"), ("swap", "#2", at("e", "^"), "#1"), ("copy", "#4", at("e", "^"))):
+        for instruction in (("store", at("e", "^"), "#0"), ("swap", "#2", at("e", "^"), "#1"),
+            ("copy", "#4", at("e", "^"))):
             self.assertEqual(self.passed(program, graph, instruction, mark), {mark})
 
     def test_the_exception_for_stores(self):
@@ -323,7 +325,8 @@ class TestPassedMoves(Case):
     def test_a_store_to_a_prefix_ends_them(self):
         pair = items(INT, BOX)
         program, graph = self.build(
-            store(at("x", 1), use("y")), store(at("x", 0), num(1)), store(at("x", 1, "^"), num(2)), store(at("x"), use("z")),
+            store(at("x", 1), use("y")), store(at("x", 0), num(1)), store(at("x", 1, "^"), num(2)),
+            store(at("x"), use("z")),
             parameters=(("x", pair), ("y", BOX), ("z", pair)))
         part = ("store", at("x", 1), "#0")
         whole = ("store", at("x"), "#3")
@@ -372,7 +375,8 @@ class TestMovedProblems(Case):
 
     def test_a_store_needs_the_way_only(self):
         self.expect(
-            ("store", at("x", 1, 1), "#0"), (at("x"), at("x", 1)), (at("x", 1, 1), at("x", 1, 1, "^"), at("x", 0), at("y")),
+            ("store", at("x", 1, 1), "#0"), (at("x"), at("x", 1)),
+            (at("x", 1, 1), at("x", 1, 1, "^"), at("x", 0), at("y")),
             store(at("x", 1, 1), use("y")))
         self.expect(("store", at("y", "^"), "#0"), (at("y"),), (at("y", "^"), at("x")), store(at("y", "^"), num(1)))
 
@@ -422,7 +426,8 @@ class TestBusyProblems(Case):
             self.assertEqual(self.shown(program, graph, instruction, mark), ("busy",), instruction)
             for state in ("loose", "dead"):
                 self.assertEqual(self.shown(program, graph, instruction, loan(at("t"), 0, state)), ())
-        for instruction in (("copy", "#8", at("k")), ("drop", "k"), ("print", "#2"), ("set", "#5", num(1)), ("drop", "t")):
+        for instruction in (("copy", "#8", at("k")), ("drop", "k"), ("print", "#2"), ("set", "#5", num(1)),
+            ("drop", "t")):
             self.assertEqual(self.shown(program, graph, instruction, mark), (), instruction)
 
     def test_a_read_of_what_a_thread_reads(self):
@@ -456,6 +461,14 @@ class TestBusyProblems(Case):
         self.assertEqual(self.shown(program, graph, ("drop", "p"), loan(at("p", 1, "?"), 4)), ())
         # A task in another variable is not waited for.
         self.assertEqual(self.shown(program, graph, ("drop", "p"), loan(at("q", "?"), 4)), ("busy",))
+
+    def test_a_move_does_not_wait(self):
+        program, graph = self.build(
+            let("p", ("tuple", (num(1), ("none", TASK)))), store(at("p", 1), ("some", spawn("one", seize("p", 0)))),
+            do(use("p")))
+        self.assertEqual(graph.points[4], ("borrow", "#3", "exclusive", at("p", 0)))
+        self.assertEqual(
+            self.shown(program, graph, ("move", "#6", at("p")), loan(at("p", 1, "?"), 4)), ("busy",))
 
     def test_a_store_waits_for_what_it_replaces(self):
         kind = items(INT, maybe(TASK))
@@ -514,7 +527,8 @@ class TestSeveralProblems(Case):
 
     def test_moved_dead_and_busy_at_once(self):
         program, graph = self.build(
-            let("e", seize("n")), let("t", spawn("one", seize("e", "^"))), show(use("e", "^")), parameters=(("n", INT),))
+            let("e", seize("n")), let("t", spawn("one", seize("e", "^"))), show(use("e", "^")),
+            parameters=(("n", INT),))
         self.assertEqual(graph.points[2], ("borrow", "#1", "exclusive", at("e", "^")))
         marks = [loan(at("t"), 2), loan(at("e"), 0, "dead"), ("moved", at("e"))]
         self.assertEqual(

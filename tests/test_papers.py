@@ -11,7 +11,7 @@ from forklent.graph import build_graph
 from forklent.kinding import check_kinds
 from forklent.marks import first_marks, new_marks, pass_mark
 from forklent.papers import judge, paper
-from generating import random_program
+from generating import ANY_PROBLEM, random_program
 
 ONE = ("one", (("e", EXCLUSIVE),), INT, (), (give(use("e", "^")),))
 # Its points: 0 borrow #0 of n, 1 spawn #1, 2 let t, 3 move #2 of t, 4 join #3, 5 print, 6 copy #4, 7 print,
@@ -210,8 +210,10 @@ class TestJudge(Case):
 
     def test_leaves_that_are_none(self):
         for leaf in (
-                at("n"), at("p"), at("p", 1), at("p", 0), at("q"), at("#3"), at("#9"), at("t", "^"), at("t", 0), at("one"),
-                at("p", 1, "?", "^"), at("p", 2), at("p", -1), at("p", "a"), at("", "?"), at("p", *["?"] * 20), at("T")):
+                at("n"), at("p"), at("p", 1), at("p", 0), at("q"), at("#3"), at("#9"), at("t", "^"), at("t", 0),
+                    at("one"),
+                at("p", 1, "?", "^"), at("p", 2), at("p", -1), at("p", "a"), at("", "?"), at("p", *["?"] * 20),
+                    at("T")):
             self.judged(False, self.with_entry(12, (("loan", leaf, 0, "alive"),)))
         self.judged(True, self.with_entry(12, (("loan", at("p", 1, "?"), 0, "alive"),)))
 
@@ -238,7 +240,8 @@ class TestJudge(Case):
         program = ((row,), (("under", (("x", ("record", "Row")),), UNIT, (), ()), main()))
         self.assertIsNone(check_kinds(program))
         twelve = ("more", "?", "^") * 4
-        for steps, wanted in ((twelve, True), (twelve + ("n",), False), (twelve * 2, False), (twelve[:-1] + ("?",), False)):
+        for steps, wanted in ((twelve, True), (twelve + ("n",), False), (twelve * 2, False),
+            (twelve[:-1] + ("?",), False)):
             self.judged(wanted, (((), (), (("moved", at("x", *steps)),)), ((), ())), program)
 
     def test_a_point_that_no_path_reaches(self):
@@ -270,7 +273,7 @@ class TestJudge(Case):
     def test_random_programs_that_are_refused(self):
         refused = 0
         for seed in range(300, 340):
-            program = random_program(seed, strict=False)
+            program = random_program(seed, ANY_PROBLEM)
             if check_program(program) is not None:
                 refused += 1
                 self.judged(False, least_paper(program), program)
