@@ -35,9 +35,9 @@ def conflicts(wanted, loan, crossing):
         return False
     if mode == "read":
         return lent_mode == "exclusive"
-    if mode == "store" and crossing is not None and crossing >= len(place[1]):
+    if mode == "store" and crossing is not None and is_prefix(place, lent_place):
         # What a borrow refers to stays as it is when the borrow itself gets another value.
-        return not is_prefix(place, lent_place)
+        return crossing < len(place[1])
     return True
 
 
@@ -82,9 +82,12 @@ class Passing:
         self.graph = graph
         self.instruction = graph.points[point]
         self.wanted = access(program, graph, point)
-        self.used = uses(program, graph, point)
-        self.cleared = clears(program, graph, point)
-        self.pairs = moves(program, graph, point)
+        # The leaves are the keys of dicts, as there may be many of them, and many marks to pass.
+        self.used = {leaf: True for leaf in uses(program, graph, point)}
+        self.cleared = {leaf: True for leaf in clears(program, graph, point)}
+        self.ends = {}
+        for begin, end in moves(program, graph, point):
+            self.ends.setdefault(begin, []).append(end)
         # The states that were worked out already, by the names of the loans.
         self.states = {}
 
@@ -95,10 +98,10 @@ class Passing:
         _, leaf, loan, state = mark
         if state == "alive":
             state = self.state_after(loan)
-        ends = [end for begin, end in self.pairs if begin == leaf]
+        marks = [("loan", end, loan, state) for end in self.ends.get(leaf, [])]
         if leaf not in self.cleared:
-            ends.append(leaf)
-        return [("loan", end, loan, state) for end in ends]
+            marks.append(("loan", leaf, loan, state))
+        return marks
 
     def fills(self, place):
         """Tell whether the instruction puts an end to the fact that a place was moved."""
@@ -150,7 +153,7 @@ class Passing:
         return False
 
     def disturbs(self, leaf, loan):
-        """Tell whether the access comes in the way of the thread that a task leaf with a loan stands for."""
+        """Tell whether the access gets in the way of a thread: the leaf is its task, and the loan is what it has."""
         if self.state_after(loan) != "dead" or not is_task(self.program, self.graph, leaf):
             return False
         # These instructions wait for the tasks in what they replace before they make their access.
